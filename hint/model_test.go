@@ -1,0 +1,282 @@
+package hint_test
+
+import (
+	"math/rand"
+	"slices"
+	"strconv"
+	"strings"
+	"testing"
+
+	"hint/hint"
+)
+
+// The model is a second, plainer making of P3 to P5: unpacked segments, and a
+// tree that grows byte by byte and is pressed together afterwards.
+
+type modelEntry struct {
+	name, text   string
+	weight, tags int
+	gone         bool
+}
+
+type modelLayer map[string]modelEntry
+
+type model struct {
+	buffer   modelLayer
+	segments []modelLayer
+}
+
+func (m *model) find(name string) (modelEntry, bool) {
+	for _, l := range append([]modelLayer{m.buffer}, reversed(m.segments)...) {
+		if entry, ok := l[name]; ok {
+			return entry, !entry.gone
+		}
+	}
+	return modelEntry{}, false
+}
+
+func reversed(layers []modelLayer) []modelLayer {
+	layers = slices.Clone(layers)
+	slices.Reverse(layers)
+	return layers
+}
+
+func (m *model) there() []string {
+	var names []string
+	for _, l := range append(slices.Clone(m.segments), m.buffer) {
+		for name := range l {
+			if _, ok := m.find(name); ok {
+				names = append(names, name)
+			}
+		}
+	}
+	slices.Sort(names)
+	return slices.Compact(names)
+}
+
+func (l modelLayer) goneNames() []string {
+	var names []string
+	for name, entry := range l {
+		if entry.gone {
+			names = append(names, name)
+		}
+	}
+	slices.Sort(names)
+	return names
+}
+
+func (l modelLayer) dropGone() {
+	for _, name := range l.goneNames() {
+		delete(l, name)
+	}
+}
+
+func (m *model) upsert(name, text string, weight, tags int) hint.Errno {
+	if _, ok := m.find(name); !ok && len(m.there()) == 30 {
+		return hint.ErrMany
+	}
+	m.buffer[name] = modelEntry{name, text, weight, tags, false}
+	return hint.OK
+}
+
+func (m *model) delete(name string) hint.Errno {
+	if _, ok := m.find(name); !ok {
+		return hint.ErrAbsent
+	}
+	if len(m.buffer.goneNames()) == 100 {
+		return hint.ErrMany
+	}
+	m.buffer[name] = modelEntry{gone: true}
+	return hint.OK
+}
+
+func (m *model) flush() hint.Errno {
+	if len(m.buffer) == 0 {
+		return hint.ErrAbsent
+	}
+	if len(m.segments) == 6 {
+		return hint.ErrMany
+	}
+	if len(m.segments) == 0 {
+		m.buffer.dropGone()
+	}
+	if len(m.buffer) > 0 {
+		m.segments = append(m.segments, m.buffer)
+	}
+	m.buffer = modelLayer{}
+	return hint.OK
+}
+
+func (m *model) merge(n int) hint.Errno {
+	if n < 0 || n+1 >= len(m.segments) {
+		return hint.ErrSegment
+	}
+	both := modelLayer{}
+	for _, l := range m.segments[n : n+2] {
+		for name, entry := range l {
+			both[name] = entry
+		}
+	}
+	if n > 0 && len(both.goneNames()) > 100 {
+		return hint.ErrMany
+	}
+	if n == 0 {
+		both.dropGone()
+	}
+	var kept []modelLayer
+	for i, l := range m.segments {
+		if i == n && len(both) > 0 {
+			kept = append(kept, both)
+		} else if i < n || i > n+1 {
+			kept = append(kept, l)
+		}
+	}
+	m.segments = kept
+	return hint.OK
+}
+
+type modelNode struct {
+	label    string
+	entries  []modelEntry
+	children map[byte]*modelNode
+}
+
+func (l modelLayer) dump() string {
+	root := &modelNode{children: map[byte]*modelNode{}}
+	for _, entry := range l {
+		if entry.gone {
+			continue
+		}
+		at := root
+		for _, b := range []byte(strings.ToLower(entry.text)) {
+			if at.children[b] == nil {
+				at.children[b] = &modelNode{label: string([]byte{b}), children: map[byte]*modelNode{}}
+			}
+			at = at.children[b]
+		}
+		at.entries = append(at.entries, entry)
+	}
+	out := string([]byte{byte(len(l.goneNames()))})
+	for _, name := range l.goneNames() {
+		out += sized(name)
+	}
+	for b, child := range root.children {
+		root.children[b] = child.pressed()
+	}
+	return out + root.written()
+}
+
+func (n *modelNode) pressed() *modelNode {
+	for b, child := range n.children {
+		n.children[b] = child.pressed()
+	}
+	if len(n.entries) > 0 || len(n.children) != 1 {
+		return n
+	}
+	for _, child := range n.children {
+		child.label = n.label + child.label
+		return child
+	}
+	return nil
+}
+
+func (n *modelNode) heaviest() int {
+	heaviest := 0
+	for _, entry := range n.entries {
+		heaviest = max(heaviest, entry.weight)
+	}
+	for _, child := range n.children {
+		heaviest = max(heaviest, child.heaviest())
+	}
+	return heaviest
+}
+
+func (n *modelNode) written() string {
+	slices.SortFunc(n.entries, func(a, b modelEntry) int { return strings.Compare(a.name, b.name) })
+	out := sized(n.label) + three(n.heaviest()) + string([]byte{byte(len(n.entries))})
+	for _, entry := range n.entries {
+		out += sized(entry.name) + sized(entry.text) + three(entry.weight) + string([]byte{byte(entry.tags)})
+	}
+	out += string([]byte{byte(len(n.children))})
+	for b := range 256 {
+		if child := n.children[byte(b)]; child != nil {
+			out += child.written()
+		}
+	}
+	return out
+}
+
+func three(n int) string {
+	return string([]byte{byte(n / 65536), byte(n / 256 % 256), byte(n % 256)})
+}
+
+// TestP3ToP5AgainstTheModel: many calls in a fixed order that looks like none.
+// Where flushes are rare, gone names come to their limit; where they are not,
+// segments do.
+func TestP3ToP5AgainstTheModel(t *testing.T) {
+	told := map[string]int{}
+	for seed := range int64(30) {
+		random := rand.New(rand.NewSource(seed))
+		e, m := hint.New(), &model{buffer: modelLayer{}}
+		names := 3 + random.Intn(400)
+		flushes := []int{2, 5, 300}[seed%3]
+		for step := range 1500 {
+			call, got, wanted := randomCall(random, e, m, names, flushes)
+			if got != wanted {
+				t.Fatalf("seed %d, step %d: %s = %d, want %d", seed, step, call, got, wanted)
+			}
+			if step%20 == 0 && !sameSegments(t, e, m) {
+				t.Fatalf("seed %d, step %d", seed, step)
+			}
+			told[call+strconv.Itoa(int(got))]++
+		}
+	}
+	for _, outcome := range []string{"Upsert0", "Upsert4", "Delete0", "Delete4", "Delete5", "Flush0", "Flush4", "Flush5", "Merge0", "Merge4", "Merge6"} {
+		if told[outcome] == 0 {
+			t.Errorf("%s never came about", outcome)
+		}
+	}
+}
+
+// randomCall does the same to the engine and to the model.
+func randomCall(random *rand.Rand, e *hint.Engine, m *model, names, flushes int) (call string, got, wanted hint.Errno) {
+	name := numbered("n", random.Intn(names))
+	switch pick := random.Intn(1000); {
+	case pick < flushes:
+		return "Flush", e.Flush(), m.flush()
+	case pick < flushes+8+flushes/3:
+		n := random.Intn(8) - 1
+		return "Merge", e.Merge(n), m.merge(n)
+	case pick < 720:
+		text, weight, tags := randomText(random), random.Intn(1000001), random.Intn(256)
+		return "Upsert", e.Upsert(name, text, weight, tags), m.upsert(name, text, weight, tags)
+	}
+	if there := m.there(); len(there) > 0 && random.Intn(8) > 0 {
+		name = there[random.Intn(len(there))]
+	}
+	return "Delete", e.Delete(name), m.delete(name)
+}
+
+func randomText(random *rand.Rand) string {
+	const alphabet = "aAbB ~0"
+	text := make([]byte, 1+random.Intn(1+random.Intn(24)))
+	for i := range text {
+		text[i] = alphabet[random.Intn(len(alphabet))]
+	}
+	return string(text)
+}
+
+func sameSegments(t *testing.T, e *hint.Engine, m *model) bool {
+	t.Helper()
+	if e.Segments() != len(m.segments) {
+		t.Errorf("Segments = %d, want %d", e.Segments(), len(m.segments))
+		return false
+	}
+	for i, l := range m.segments {
+		if got, err := e.Dump(i); got != l.dump() || err != hint.OK {
+			t.Errorf("Dump(%d) = %q, %d, want %q", i, got, err, l.dump())
+			return false
+		}
+	}
+	return true
+}

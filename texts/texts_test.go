@@ -1,0 +1,65 @@
+package texts
+
+import (
+	"strings"
+	"testing"
+)
+
+func TestIsName(t *testing.T) {
+	for _, good := range []string{"a", "z", "0", "9", "a0z9", "abcdefgh", "01234567"} {
+		if !IsName(good) {
+			t.Errorf("%q is a name", good)
+		}
+	}
+	bad := []string{"", "abcdefghi", "A", "Z", "a b", " a", "a ", "a-b", "a_b", "\x00", "a\n", "\u00e9", "\xff", strings.Repeat("a", 1<<20)}
+	for _, neighbour := range []byte{'a' - 1, 'z' + 1, '0' - 1, '9' + 1} {
+		bad = append(bad, string(rune(neighbour)))
+	}
+	for _, s := range bad {
+		if IsName(s) {
+			t.Errorf("%.40q is no name", s)
+		}
+	}
+}
+
+func TestIsText(t *testing.T) {
+	for _, good := range []string{" ", "~", "a", "New York", strings.Repeat("x", MaxText)} {
+		if !IsText(good) {
+			t.Errorf("%q is a text", good)
+		}
+	}
+	for _, bad := range []string{"", strings.Repeat("x", MaxText+1), "\x1f", "\x7f", "a\x00", "\ta", "a\x80b", "\u00e9", strings.Repeat("x", 1<<20)} {
+		if IsText(bad) {
+			t.Errorf("%.40q is no text", bad)
+		}
+	}
+}
+
+func TestEveryByte(t *testing.T) {
+	for b := range 256 {
+		s := string([]byte{byte(b)})
+		inName := strings.Contains("abcdefghijklmnopqrstuvwxyz0123456789", s)
+		if IsName(s) != inName || IsName("a"+s) != inName {
+			t.Errorf("the byte %d in a name: want %v", b, inName)
+		}
+		inText := b >= 32 && b <= 126
+		if IsText(s) != inText || IsText("a"+s) != inText {
+			t.Errorf("the byte %d in a text: want %v", b, inText)
+		}
+	}
+}
+
+func TestFold(t *testing.T) {
+	for s, want := range map[string]string{
+		"":             "",
+		"New York":     "new york",
+		"AZaz09":       "azaz09",
+		"@[`{~ !":      "@[`{~ !",
+		"\xc0\xc1Z":    "\xc0\xc1z",
+		"\u00c9\u0130": "\u00c9\u0130",
+	} {
+		if got := Fold(s); got != want {
+			t.Errorf("Fold(%q) = %q, want %q", s, got, want)
+		}
+	}
+}
