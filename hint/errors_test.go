@@ -31,6 +31,15 @@ func full(t *testing.T) *hint.Engine {
 
 func fresh(*testing.T) *hint.Engine { return hint.New() }
 
+// TestNumbersOfErrors: as the document's list has them.
+func TestNumbersOfErrors(t *testing.T) {
+	for number, err := range []hint.Errno{hint.OK, hint.ErrName, hint.ErrText, hint.ErrArg, hint.ErrMany, hint.ErrAbsent, hint.ErrSegment, hint.ErrPacked} {
+		if int(err) != number {
+			t.Errorf("the error number %d is %d", number, err)
+		}
+	}
+}
+
 // TestP1NothingPanics: all numbers and strings, on an empty engine and on a
 // full one.
 func TestP1NothingPanics(t *testing.T) {
@@ -89,6 +98,9 @@ func TestP1ErrorsChangeNothing(t *testing.T) {
 			}
 		}
 		want(t, "Merge of the newest", asked.Merge(asked.Segments()-1), hint.ErrSegment)
+		for _, s := range wrongStrings {
+			want(t, "Load of no segment", asked.Load(s), hint.ErrPacked)
+		}
 		if got, wanted := tell(asked), tell(begin(t)); got != wanted {
 			t.Errorf("after errors: %s, want %s", got, wanted)
 		}

@@ -24,7 +24,10 @@ const (
 	ErrPacked  Errno = 7 // no packed segment
 )
 
-const maxSegments = 6
+const (
+	maxSegments = 6
+	maxPacked   = 4000
+)
 
 // Engine keeps entries and words.
 type Engine struct {
@@ -97,7 +100,7 @@ func (e *Engine) Merge(segment int) Errno {
 	if segment < 0 || segment >= len(e.segments)-1 {
 		return ErrSegment
 	}
-	both := layer.Merge(unpack(e.segments[segment]), unpack(e.segments[segment+1]))
+	both := layer.Merge(unpackOwn(e.segments[segment]), unpackOwn(e.segments[segment+1]))
 	if segment == 0 {
 		both = both.WithoutGone()
 	}
@@ -120,7 +123,24 @@ func (e *Engine) Dump(segment int) (string, Errno) {
 }
 
 // Load takes a packed segment in (P5).
-func (e *Engine) Load(packed string) Errno { return OK }
+func (e *Engine) Load(packed string) Errno {
+	said, sound := unpackStrange(packed)
+	if !sound {
+		return ErrPacked
+	}
+	if len(e.buffer) > 0 {
+		return ErrArg
+	}
+	if len(e.segments) >= maxSegments {
+		return ErrMany
+	}
+	if there := layer.Merge(e.there(), said).WithoutGone(); len(there) > layer.MaxEntries {
+		return ErrMany
+	}
+	// A clone, for the caller's string may be a small piece of a great one.
+	e.segments = append(e.segments, strings.Clone(packed))
+	return OK
+}
 
 // Complete tells the entries that a query fits (P6).
 func (e *Engine) Complete(mode int, query string, tags int, most int) ([]string, Errno) {
@@ -137,17 +157,26 @@ func (e *Engine) Suggest(text string, most int) ([]string, Errno) { return nil, 
 func (e *Engine) there() layer.Layer {
 	var layers []layer.Layer
 	for _, segment := range e.segments {
-		layers = append(layers, unpack(segment))
+		layers = append(layers, unpackOwn(segment))
 	}
 	layers = append(layers, e.buffer)
 	return layer.Merge(layers...).WithoutGone()
 }
 
-// unpack reads a segment of an engine's own. An engine keeps none that cannot
-// be read, so there is no fault to ask for.
-func unpack(segment string) layer.Layer {
+// unpackOwn reads a segment that an engine keeps. It keeps none that cannot be
+// read, so there is no fault to ask for.
+func unpackOwn(segment string) layer.Layer {
 	said, _ := packed.Unpack(segment)
 	return said
+}
+
+// unpackStrange reads a segment that may be none; false, if so. Its length is
+// asked first, so that what is too long costs nothing.
+func unpackStrange(segment string) (layer.Layer, bool) {
+	if len(segment) > maxPacked {
+		return nil, false
+	}
+	return packed.Unpack(segment)
 }
 
 // packUnlessEmpty answers one segment, or none if there is nothing to say.

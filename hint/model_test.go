@@ -2,6 +2,7 @@ package hint_test
 
 import (
 	"math/rand"
+	"regexp"
 	"slices"
 	"strconv"
 	"strings"
@@ -135,6 +136,68 @@ func (m *model) merge(n int) hint.Errno {
 	return hint.OK
 }
 
+func (m *model) load(packed string) hint.Errno {
+	l, ok := modelUnpack(packed)
+	if !ok {
+		return hint.ErrPacked
+	}
+	if len(m.buffer) > 0 {
+		return hint.ErrArg
+	}
+	after := &model{segments: append(slices.Clone(m.segments), l)}
+	if len(after.segments) > 6 || len(after.there()) > 30 {
+		return hint.ErrMany
+	}
+	m.segments = after.segments
+	return hint.OK
+}
+
+// modelUnpack reads without a look at the form, and then asks whether what was
+// read, written anew, is the same.
+func modelUnpack(packed string) (modelLayer, bool) {
+	l, rest, names := modelLayer{}, packed, 0
+	cut := func(n int) string {
+		n = min(n, len(rest))
+		piece := rest[:n]
+		rest = rest[n:]
+		return piece
+	}
+	number := func(bytes int) int {
+		n := 0
+		for _, b := range []byte(cut(bytes)) {
+			n = n*256 + int(b)
+		}
+		return n
+	}
+	for range number(1) {
+		l[cut(number(1))] = modelEntry{gone: true}
+		names++
+	}
+	for nodes := 1; nodes > 0 && rest != ""; nodes-- {
+		cut(number(1))
+		number(3)
+		for range number(1) {
+			name, text := cut(number(1)), cut(number(1))
+			l[name] = modelEntry{name: name, text: text, weight: number(3), tags: number(1)}
+			names++
+		}
+		nodes += number(1)
+	}
+	return l, names == len(l) && l.mayBe() && l.dump() == packed
+}
+
+// mayBe tells whether the layer keeps to the limits.
+func (l modelLayer) mayBe() bool {
+	name, text := regexp.MustCompile("^[a-z0-9]{1,8}$"), regexp.MustCompile("^[ -~]{1,24}$")
+	for n, entry := range l {
+		if !name.MatchString(n) || !entry.gone && (!text.MatchString(entry.text) || entry.weight > 1000000) {
+			return false
+		}
+	}
+	gone := len(l.goneNames())
+	return len(l) > 0 && gone <= 100 && len(l)-gone <= 30
+}
+
 type modelNode struct {
 	label    string
 	entries  []modelEntry
@@ -231,7 +294,7 @@ func TestP3ToP5AgainstTheModel(t *testing.T) {
 			told[call+strconv.Itoa(int(got))]++
 		}
 	}
-	for _, outcome := range []string{"Upsert0", "Upsert4", "Delete0", "Delete4", "Delete5", "Flush0", "Flush4", "Flush5", "Merge0", "Merge4", "Merge6"} {
+	for _, outcome := range []string{"Upsert0", "Upsert4", "Delete0", "Delete4", "Delete5", "Flush0", "Flush4", "Flush5", "Merge0", "Merge4", "Merge6", "Load0", "Load3", "Load4", "Load7"} {
 		if told[outcome] == 0 {
 			t.Errorf("%s never came about", outcome)
 		}
@@ -247,6 +310,9 @@ func randomCall(random *rand.Rand, e *hint.Engine, m *model, names, flushes int)
 	case pick < flushes+8+flushes/3:
 		n := random.Intn(8) - 1
 		return "Merge", e.Merge(n), m.merge(n)
+	case pick < flushes+18+flushes/3:
+		packed := randomSegment(random, m, names)
+		return "Load", e.Load(packed), m.load(packed)
 	case pick < 720:
 		text, weight, tags := randomText(random), random.Intn(1000001), random.Intn(256)
 		return "Upsert", e.Upsert(name, text, weight, tags), m.upsert(name, text, weight, tags)
@@ -255,6 +321,27 @@ func randomCall(random *rand.Rand, e *hint.Engine, m *model, names, flushes int)
 		name = there[random.Intn(len(there))]
 	}
 	return "Delete", e.Delete(name), m.delete(name)
+}
+
+// randomSegment is packed, and now and then spoilt or above the limits. It
+// mostly names what is there, so that there is room for it.
+func randomSegment(random *rand.Rand, m *model, names int) string {
+	l, there := modelLayer{}, m.there()
+	for range random.Intn(34) {
+		name := numbered("n", random.Intn(names))
+		if len(there) > 0 && random.Intn(4) > 0 {
+			name = there[random.Intn(len(there))]
+		}
+		l[name] = modelEntry{name, randomText(random), random.Intn(1000001), random.Intn(256), false}
+	}
+	for range random.Intn(1 + random.Intn(110)) {
+		l[numbered("n", random.Intn(names))] = modelEntry{gone: true}
+	}
+	packed := []byte(l.dump())
+	if random.Intn(6) == 0 {
+		packed[random.Intn(len(packed))] = byte(random.Intn(256))
+	}
+	return string(packed)
 }
 
 func randomText(random *rand.Rand) string {

@@ -2,6 +2,7 @@ package packed
 
 import (
 	"maps"
+	"strconv"
 	"strings"
 	"testing"
 
@@ -24,7 +25,6 @@ var cases = []struct {
 	said layer.Layer
 	want string
 }{
-	{"nothing", said(nil), "\x00" + "\x00\x00\x00\x00\x00\x00"},
 	{"gone names by their bytes",
 		said([]string{"b", "abc", "a", "0", "ab"}),
 		"\x05\x010\x01a\x02ab\x03abc\x01b" + "\x00\x00\x00\x00\x00\x00"},
@@ -73,7 +73,8 @@ func TestUnpackOfWrongLength(t *testing.T) {
 		refused(t, c.want+c.want)
 	}
 	refused(t, strings.Repeat("\xff", 4000))
-	refused(t, "\x00"+strings.Repeat("\x00\x00\x00\x00\x00\x01", 600))
+	refused(t, "\x00"+strings.Repeat("\x00\x00\x00\x00\x00\x01", 1<<20))
+	refused(t, "\x00\x00\x00\x00\x00\x00\x01"+strings.Repeat("\x01a\x00\x00\x00\x00\x01", 1<<20))
 }
 
 func refused(t *testing.T, packed string) {
@@ -83,14 +84,67 @@ func refused(t *testing.T, packed string) {
 	}
 }
 
-func TestUnpackOfAnyByteEnds(t *testing.T) {
+// TestUnpackOfAnyByte: what is taken is what Pack writes of it.
+func TestUnpackOfAnyByte(t *testing.T) {
 	for _, c := range cases {
 		for at := range len(c.want) {
 			for b := range 256 {
-				Unpack(c.want[:at] + string([]byte{byte(b)}) + c.want[at+1:])
+				spoilt := c.want[:at] + string([]byte{byte(b)}) + c.want[at+1:]
+				if got, ok := Unpack(spoilt); ok && Pack(got) != spoilt {
+					t.Errorf("Unpack(%q) = %v, which is packed as %q", spoilt, got, Pack(got))
+				}
 			}
 		}
 	}
+}
+
+// TestUnpackOfOtherForms: they tell as much, but Pack would write them
+// otherwise.
+func TestUnpackOfOtherForms(t *testing.T) {
+	const (
+		root = "\x00\x00\x00\x00\x00" // and how many children
+		a    = "\x01a\x00\x00\x00\x01\x01n\x01a\x00\x00\x00\x00\x00"
+		b    = "\x01b\x00\x00\x00\x01\x01m\x01b\x00\x00\x00\x00\x00"
+		ab   = "\x02ab\x00\x00\x00\x01\x01n\x02ab\x00\x00\x00\x00\x00"
+		ac   = "\x02ac\x00\x00\x00\x01\x01m\x02ac\x00\x00\x00\x00\x00"
+	)
+	if _, ok := Unpack("\x00" + root + "\x02" + a + b); !ok {
+		t.Errorf("the form that is asked for is refused")
+	}
+	refused(t, "\x00"+root+"\x02"+b+a)
+	refused(t, "\x00"+root+"\x02"+ab+ac)
+	refused(t, "\x00"+root+"\x01"+"\x01a\x00\x00\x00\x00\x01\x01b"+ab[3:])
+	refused(t, "\x00"+root+"\x01"+root+"\x02"+a+b)
+	refused(t, "\x00"+root+"\x02"+a+"\x01b\x00\x00\x00\x00\x00")
+	refused(t, "\x00"+"\x00\x00\x00\x01\x00\x01"+a)
+	refused(t, "\x00"+a)
+	refused(t, "\x02\x01b\x01a"+root+"\x00")
+	refused(t, "\x01\x01n"+root+"\x01"+a)
+}
+
+// TestUnpackOfLimits: each just reached and just passed.
+func TestUnpackOfLimits(t *testing.T) {
+	with := func(entries, gone int) string {
+		l := layer.Layer{}
+		for i := range entries {
+			l.Put(layer.Entry{Name: "e" + strconv.Itoa(i), Text: strconv.Itoa(i % 7)})
+		}
+		for i := range gone {
+			l.TakeAway("g" + strconv.Itoa(i))
+		}
+		return Pack(l)
+	}
+	if got, ok := Unpack(with(layer.MaxEntries, layer.MaxGone)); !ok || len(got) != layer.MaxEntries+layer.MaxGone {
+		t.Errorf("as much as may be: %v, %v", got, ok)
+	}
+	refused(t, with(0, 0))
+	refused(t, with(layer.MaxEntries+1, 0))
+	refused(t, with(0, layer.MaxGone+1))
+	refused(t, Pack(said(nil, layer.Entry{Name: "n", Text: "x", Weight: layer.MaxWeight + 1})))
+	refused(t, Pack(said(nil, layer.Entry{Name: "n", Text: strings.Repeat("x", 25)})))
+	refused(t, Pack(said(nil, layer.Entry{Name: "n", Text: "\x7f"})))
+	refused(t, Pack(said(nil, layer.Entry{Name: "N", Text: "x"})))
+	refused(t, Pack(said([]string{"N"})))
 }
 
 func TestGuardTakesDamageAlone(t *testing.T) {

@@ -1,6 +1,9 @@
 package packed
 
-import "hint/layer"
+import (
+	"hint/layer"
+	"hint/texts"
+)
 
 // damage is what a reader panics with where the bytes are not a packed
 // segment. A type of its own, so that no other panic is taken for it.
@@ -11,22 +14,18 @@ type damage struct{}
 type reader struct {
 	packed string
 	at     int
+	said   layer.Layer
 }
 
-// Unpack answers what a packed segment says; false, if the bytes end too early
-// or too late for one.
+// Unpack answers what a packed segment says; false, if it is not, byte by
+// byte, what Pack writes of a layer that says something and keeps to the
+// limits.
 func Unpack(packed string) (layer.Layer, bool) {
-	said := layer.Layer{}
-	sound := guard(func() {
-		r := reader{packed: packed}
-		r.gone(said)
-		r.node(said)
-		r.end()
-	})
-	if !sound {
+	r := reader{packed: packed, said: layer.Layer{}}
+	if !guard(r.segment) {
 		return nil, false
 	}
-	return said, true
+	return r.said, true
 }
 
 // guard tells whether the reading went through without damage. Any other panic
@@ -46,31 +45,92 @@ func guard(reading func()) (sound bool) {
 	return true
 }
 
-func (r *reader) gone(said layer.Layer) {
-	for range r.number() {
-		said.TakeAway(r.text())
+func must(sound bool) {
+	if !sound {
+		panic(damage{})
 	}
 }
 
-// node reads a node and all below it. What an entry says stands in it whole:
-// the label and the greatest weight are passed over.
-func (r *reader) node(said layer.Layer) {
-	r.text()
-	r.weight()
-	for range r.number() {
-		said.Put(r.entry())
-	}
-	for range r.number() {
-		r.node(said)
-	}
+func (r *reader) segment() {
+	gone := r.gone()
+	must(r.text() == "")
+	r.node("")
+	must(r.at == len(r.packed))
+	must(len(r.said) > 0)
+	must(gone <= layer.MaxGone)
+	must(len(r.said)-gone <= layer.MaxEntries)
 }
 
-func (r *reader) entry() layer.Entry {
-	name := r.text()
+// gone reads the gone names, and answers how many there are.
+func (r *reader) gone() int {
+	count := r.number()
+	last := ""
+	for range count {
+		last = r.nameBehind(last)
+		r.said.TakeAway(last)
+	}
+	return count
+}
+
+// node reads the rest of a node behind its label, and all below it, and
+// answers the greatest weight. The labels down to it are its path.
+func (r *reader) node(path string) int {
+	// No text is longer, so that nothing but damage is nested deeper.
+	must(len(path) <= texts.MaxText)
+	greatest := r.weight()
+	entries, heaviest := r.entries(path)
+	children, heaviestBelow := r.children(path)
+	must(greatest == max(heaviest, heaviestBelow))
+	must(path == "" || entries > 0 || children > 1)
+	return greatest
+}
+
+// entries reads the entries of the node that path leads to, and answers how
+// many there are and the greatest weight of them.
+func (r *reader) entries(path string) (count int, greatest int) {
+	count = r.number()
+	last := ""
+	for range count {
+		last = r.nameBehind(last)
+		entry := r.entry(last)
+		must(texts.Fold(entry.Text) == path)
+		r.said.Put(entry)
+		greatest = max(greatest, entry.Weight)
+	}
+	return count, greatest
+}
+
+// children reads the nodes right below the one that path leads to, and answers
+// how many there are and the greatest weight of them.
+func (r *reader) children(path string) (count int, greatest int) {
+	count = r.number()
+	last := -1
+	for range count {
+		label := r.text()
+		must(label != "" && int(label[0]) > last)
+		last = int(label[0])
+		greatest = max(greatest, r.node(path+label))
+	}
+	return count, greatest
+}
+
+// entry reads what follows the name of an entry.
+func (r *reader) entry(name string) layer.Entry {
 	text := r.text()
+	must(texts.IsText(text))
 	weight := r.weight()
-	tags := r.number()
-	return layer.Entry{Name: name, Text: text, Weight: weight, Tags: tags}
+	must(weight <= layer.MaxWeight)
+	return layer.Entry{Name: name, Text: text, Weight: weight, Tags: r.number()}
+}
+
+// nameBehind reads a name that nothing was said of yet, and that comes behind
+// the last one of its list ("" ahead of the first).
+func (r *reader) nameBehind(last string) string {
+	name := r.text()
+	must(texts.IsName(name) && name > last)
+	_, known := r.said[name]
+	must(!known)
+	return name
 }
 
 func (r *reader) text() string {
@@ -88,16 +148,8 @@ func (r *reader) number() int {
 
 // take answers the next n bytes.
 func (r *reader) take(n int) string {
-	if n > len(r.packed)-r.at {
-		panic(damage{})
-	}
+	must(n <= len(r.packed)-r.at)
 	taken := r.packed[r.at : r.at+n]
 	r.at += n
 	return taken
-}
-
-func (r *reader) end() {
-	if r.at != len(r.packed) {
-		panic(damage{})
-	}
 }
