@@ -66,10 +66,10 @@ func noneBesideAnError(t *testing.T, e *hint.Engine, s string, n int) {
 	if packed, err := e.Dump(n); err != hint.OK && packed != "" {
 		t.Errorf("Dump(%d): %q beside %d", n, packed, err)
 	}
-	if list, err := e.Complete(n, s, n, n); err != hint.OK && len(list) > 0 {
+	if list, err := e.Complete(n, s, n, n); err != hint.OK && list != nil {
 		t.Errorf("Complete: %q beside %d", list, err)
 	}
-	if list, err := e.Suggest(s, n); err != hint.OK && len(list) > 0 {
+	if list, err := e.Suggest(s, n); err != hint.OK && list != nil {
 		t.Errorf("Suggest: %q beside %d", list, err)
 	}
 }

@@ -3,10 +3,13 @@ package hint
 
 import (
 	"slices"
+	"strconv"
 	"strings"
 
 	"hint/layer"
+	"hint/match"
 	"hint/packed"
+	"hint/search"
 	"hint/texts"
 )
 
@@ -25,8 +28,8 @@ const (
 )
 
 const (
-	maxSegments = 6
-	maxPacked   = 4000
+	maxPacked = 4000
+	maxTold   = 20
 )
 
 // Engine keeps entries and words.
@@ -83,7 +86,7 @@ func (e *Engine) Flush() Errno {
 	if len(e.buffer) == 0 {
 		return ErrAbsent
 	}
-	if len(e.segments) >= maxSegments {
+	if len(e.segments) >= layer.MaxSegments {
 		return ErrMany
 	}
 	said := e.buffer
@@ -131,7 +134,7 @@ func (e *Engine) Load(packed string) Errno {
 	if len(e.buffer) > 0 {
 		return ErrArg
 	}
-	if len(e.segments) >= maxSegments {
+	if len(e.segments) >= layer.MaxSegments {
 		return ErrMany
 	}
 	if there := layer.Merge(e.there(), said).WithoutGone(); len(there) > layer.MaxEntries {
@@ -144,7 +147,22 @@ func (e *Engine) Load(packed string) Errno {
 
 // Complete tells the entries that a query fits (P6).
 func (e *Engine) Complete(mode int, query string, tags int, most int) ([]string, Errno) {
-	return nil, OK
+	if !isMode(mode) || tags < 0 || tags > layer.MaxTags || most < 1 || most > maxTold {
+		return nil, ErrArg
+	}
+	if !texts.IsTyped(query) {
+		return nil, ErrText
+	}
+	found := search.Entries(e.segments, e.buffer, search.Wanted{
+		Mode:  match.Mode(mode),
+		Query: texts.Fold(query),
+		Tags:  tags,
+	})
+	var lines []string
+	for _, entry := range found[:min(most, len(found))] {
+		lines = append(lines, line(entry))
+	}
+	return lines, OK
 }
 
 // Observe counts the words of a text (P7).
@@ -161,6 +179,15 @@ func (e *Engine) there() layer.Layer {
 	}
 	layers = append(layers, e.buffer)
 	return layer.Merge(layers...).WithoutGone()
+}
+
+func isMode(mode int) bool {
+	return mode >= int(match.Whole) && mode <= int(match.TwoChanges)
+}
+
+// line answers an entry as Complete tells it.
+func line(entry layer.Entry) string {
+	return entry.Name + " " + strconv.Itoa(entry.Weight) + " " + entry.Text
 }
 
 // unpackOwn reads a segment that an engine keeps. It keeps none that cannot be

@@ -1,6 +1,7 @@
 package hint_test
 
 import (
+	"fmt"
 	"math/rand"
 	"regexp"
 	"slices"
@@ -11,8 +12,9 @@ import (
 	"hint/hint"
 )
 
-// The model is a second, plainer making of P3 to P5: unpacked segments, and a
-// tree that grows byte by byte and is pressed together afterwards.
+// The model is a second, plainer making of P3 to P6: unpacked segments, and a
+// tree that grows byte by byte and is pressed together afterwards; a search
+// that tries all.
 
 type modelEntry struct {
 	name, text   string
@@ -152,6 +154,54 @@ func (m *model) load(packed string) hint.Errno {
 	return hint.OK
 }
 
+func (m *model) complete(mode int, query string, tags, most int) []string {
+	var fitting []modelEntry
+	for _, name := range m.there() {
+		entry, _ := m.find(name)
+		if modelFits(mode, strings.ToLower(query), strings.ToLower(entry.text)) && tags&^entry.tags == 0 {
+			fitting = append(fitting, entry)
+		}
+	}
+	// The names are in their order already, and stay so among equals.
+	slices.SortStableFunc(fitting, func(a, b modelEntry) int {
+		if a.weight != b.weight {
+			return b.weight - a.weight
+		}
+		return strings.Compare(strings.ToLower(a.text), strings.ToLower(b.text))
+	})
+	var lines []string
+	for _, entry := range fitting {
+		lines = append(lines, fmt.Sprintf("%s %d %s", entry.name, entry.weight, entry.text))
+	}
+	return lines[:min(most, len(lines))]
+}
+
+var modelWord = regexp.MustCompile("[a-z0-9]+")
+
+func modelFits(mode int, query, text string) bool {
+	if mode == 1 {
+		for _, word := range modelWord.FindAllStringIndex(text, -1) {
+			if modelNear(query, text[word[0]:], 0) {
+				return true
+			}
+		}
+		return false
+	}
+	return modelNear(query, text, max(0, mode-1))
+}
+
+// modelNear tries every change at every byte.
+func modelNear(query, text string, changes int) bool {
+	if query == "" || text != "" && query[0] == text[0] && modelNear(query[1:], text[1:], changes) {
+		return true
+	}
+	if changes == 0 {
+		return false
+	}
+	return modelNear(query[1:], text, changes-1) ||
+		text != "" && (modelNear(query, text[1:], changes-1) || modelNear(query[1:], text[1:], changes-1))
+}
+
 // modelUnpack reads without a look at the form, and then asks whether what was
 // read, written anew, is the same.
 func modelUnpack(packed string) (modelLayer, bool) {
@@ -273,10 +323,10 @@ func three(n int) string {
 	return string([]byte{byte(n / 65536), byte(n / 256 % 256), byte(n % 256)})
 }
 
-// TestP3ToP5AgainstTheModel: many calls in a fixed order that looks like none.
+// TestP3ToP6AgainstTheModel: many calls in a fixed order that looks like none.
 // Where flushes are rare, gone names come to their limit; where they are not,
 // segments do.
-func TestP3ToP5AgainstTheModel(t *testing.T) {
+func TestP3ToP6AgainstTheModel(t *testing.T) {
 	told := map[string]int{}
 	for seed := range int64(30) {
 		random := rand.New(rand.NewSource(seed))
@@ -292,9 +342,13 @@ func TestP3ToP5AgainstTheModel(t *testing.T) {
 				t.Fatalf("seed %d, step %d", seed, step)
 			}
 			told[call+strconv.Itoa(int(got))]++
+			if step%5 == 0 {
+				lines := sameLines(t, random, e, m)
+				told["Complete of "+strconv.Itoa(min(lines, 2))]++
+			}
 		}
 	}
-	for _, outcome := range []string{"Upsert0", "Upsert4", "Delete0", "Delete4", "Delete5", "Flush0", "Flush4", "Flush5", "Merge0", "Merge4", "Merge6", "Load0", "Load3", "Load4", "Load7"} {
+	for _, outcome := range []string{"Upsert0", "Upsert4", "Delete0", "Delete4", "Delete5", "Flush0", "Flush4", "Flush5", "Merge0", "Merge4", "Merge6", "Load0", "Load3", "Load4", "Load7", "Complete of 0", "Complete of 1", "Complete of 2"} {
 		if told[outcome] == 0 {
 			t.Errorf("%s never came about", outcome)
 		}
@@ -351,6 +405,35 @@ func randomText(random *rand.Rand) string {
 		text[i] = alphabet[random.Intn(len(alphabet))]
 	}
 	return string(text)
+}
+
+// randomQuery is mostly some of a text that is there, with changes.
+func randomQuery(random *rand.Rand, m *model) string {
+	query, there := randomText(random), m.there()
+	if len(there) > 0 && random.Intn(5) > 0 {
+		entry, _ := m.find(there[random.Intn(len(there))])
+		from := random.Intn(len(entry.text)) * random.Intn(2)
+		query = entry.text[from:]
+		query = query[:random.Intn(len(query)+1)]
+	}
+	for range random.Intn(4) {
+		at := random.Intn(len(query) + 1)
+		less := random.Intn(2) * min(1, len(query)-at)
+		query = query[:at] + randomText(random)[:random.Intn(2)] + query[at+less:]
+	}
+	return query[:min(len(query), 24)]
+}
+
+// sameLines answers how many lines there are.
+func sameLines(t *testing.T, random *rand.Rand, e *hint.Engine, m *model) int {
+	t.Helper()
+	mode, query, most := random.Intn(4), randomQuery(random, m), 1+random.Intn(20)
+	tags := random.Intn(256) & random.Intn(256) & random.Intn(256) * random.Intn(2)
+	wanted := m.complete(mode, query, tags, most)
+	if got, err := e.Complete(mode, query, tags, most); !slices.Equal(got, wanted) || err != hint.OK {
+		t.Fatalf("Complete(%d, %q, %d, %d) = %q, %d, want %q", mode, query, tags, most, got, err, wanted)
+	}
+	return len(wanted)
 }
 
 func sameSegments(t *testing.T, e *hint.Engine, m *model) bool {

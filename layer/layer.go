@@ -2,14 +2,20 @@
 // that it is gone, or what its entry is.
 package layer
 
-import "maps"
+import (
+	"cmp"
+	"maps"
+
+	"hint/texts"
+)
 
 // The limits of entries and of layers.
 const (
-	MaxWeight  = 1000000
-	MaxTags    = 255
-	MaxEntries = 30
-	MaxGone    = 100
+	MaxWeight   = 1000000
+	MaxTags     = 255
+	MaxEntries  = 30
+	MaxGone     = 100
+	MaxSegments = 6
 )
 
 // Entry is a short text with a weight and tags, known by its name.
@@ -18,6 +24,15 @@ type Entry struct {
 	Text   string
 	Weight int
 	Tags   int
+}
+
+// Compare orders entries as they are told: below 0, if a comes ahead of b.
+func Compare(a Entry, b Entry) int {
+	return cmp.Or(
+		cmp.Compare(b.Weight, a.Weight),
+		cmp.Compare(texts.Fold(a.Text), texts.Fold(b.Text)),
+		cmp.Compare(a.Name, b.Name),
+	)
 }
 
 // Saying is what a layer says of one name. Entry has a meaning only if the

@@ -5,6 +5,38 @@ import (
 	"testing"
 )
 
+// TestCompare: each comes ahead of all that follow.
+func TestCompare(t *testing.T) {
+	ordered := []Entry{
+		{"z", "z", 1000000, 0},
+		{"b", "a", 2, 0},
+		{"a", "~", 2, 0},
+		{"z", " ", 1, 0},
+		{"d", "A", 1, 0},
+		{"c", "A ", 1, 0},
+		{"0", "AB", 1, 0},
+		{"1", "ab", 1, 0},
+		{"1a", "aB", 1, 0},
+		{"2", "Ab", 1, 0},
+		{"b", "aba", 1, 0},
+		{"a", "Az", 1, 0},
+		{"9", "a~", 1, 0},
+		{"8", "B", 1, 0},
+		{"7", "~", 1, 0},
+		{"0", " ", 0, 0},
+	}
+	for i, a := range ordered {
+		if Compare(a, a) != 0 {
+			t.Errorf("%v is not where it is", a)
+		}
+		for _, b := range ordered[i+1:] {
+			if Compare(a, b) >= 0 || Compare(b, a) <= 0 {
+				t.Errorf("%v comes ahead of %v", a, b)
+			}
+		}
+	}
+}
+
 func TestPutAndTakeAway(t *testing.T) {
 	l := Layer{}
 	l.Put(Entry{"a", "one", 1, 2})

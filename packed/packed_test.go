@@ -64,6 +64,25 @@ func TestUnpack(t *testing.T) {
 	}
 }
 
+// TestEachTellsPlaces: each name once, where its length is written.
+func TestEachTellsPlaces(t *testing.T) {
+	for _, c := range cases {
+		told, last := layer.Layer{}, 0
+		sound := Each(c.want, func(at int, name string, saying layer.Saying) {
+			if _, twice := told[name]; twice || at <= last || !strings.HasPrefix(c.want[at+1:], name) || int(c.want[at]) != len(name) {
+				t.Errorf("%s: %q at %d", c.what, name, at)
+			}
+			told[name], last = saying, at
+		})
+		if !sound || !maps.Equal(told, c.said) {
+			t.Errorf("%s: %v, %v, want %v", c.what, told, sound, c.said)
+		}
+		if Each(c.want+"\x00", func(int, string, layer.Saying) {}) {
+			t.Errorf("%s: a byte too many is told as sound", c.what)
+		}
+	}
+}
+
 func TestUnpackOfWrongLength(t *testing.T) {
 	for _, c := range cases {
 		for n := range len(c.want) {

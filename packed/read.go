@@ -14,18 +14,29 @@ type damage struct{}
 type reader struct {
 	packed string
 	at     int
-	said   layer.Layer
+	known  map[string]struct{} // the names that something was said of
+	tell   func(at int, name string, saying layer.Saying)
 }
 
-// Unpack answers what a packed segment says; false, if it is not, byte by
-// byte, what Pack writes of a layer that says something and keeps to the
-// limits.
+// Unpack answers what a packed segment says; false, if it is none.
 func Unpack(packed string) (layer.Layer, bool) {
-	r := reader{packed: packed, said: layer.Layer{}}
-	if !guard(r.segment) {
+	said := layer.Layer{}
+	sound := Each(packed, func(_ int, name string, saying layer.Saying) {
+		said[name] = saying
+	})
+	if !sound {
 		return nil, false
 	}
-	return r.said, true
+	return said, true
+}
+
+// Each tells all that a packed segment says as it is read, each with its place
+// in it. It answers false, and then what was told counts for nothing, if the
+// segment is not, byte by byte, what Pack writes of a layer that says
+// something and keeps to the limits.
+func Each(packed string, tell func(at int, name string, saying layer.Saying)) bool {
+	r := reader{packed: packed, known: map[string]struct{}{}, tell: tell}
+	return guard(r.segment)
 }
 
 // guard tells whether the reading went through without damage. Any other panic
@@ -56,9 +67,9 @@ func (r *reader) segment() {
 	must(r.text() == "")
 	r.node("")
 	must(r.at == len(r.packed))
-	must(len(r.said) > 0)
+	must(len(r.known) > 0)
 	must(gone <= layer.MaxGone)
-	must(len(r.said)-gone <= layer.MaxEntries)
+	must(len(r.known)-gone <= layer.MaxEntries)
 }
 
 // gone reads the gone names, and answers how many there are.
@@ -66,8 +77,9 @@ func (r *reader) gone() int {
 	count := r.number()
 	last := ""
 	for range count {
+		at := r.at
 		last = r.nameBehind(last)
-		r.said.TakeAway(last)
+		r.say(at, last, layer.Saying{Gone: true})
 	}
 	return count
 }
@@ -91,10 +103,11 @@ func (r *reader) entries(path string) (count int, greatest int) {
 	count = r.number()
 	last := ""
 	for range count {
+		at := r.at
 		last = r.nameBehind(last)
 		entry := r.entry(last)
 		must(texts.Fold(entry.Text) == path)
-		r.said.Put(entry)
+		r.say(at, last, layer.Saying{Entry: entry})
 		greatest = max(greatest, entry.Weight)
 	}
 	return count, greatest
@@ -128,9 +141,14 @@ func (r *reader) entry(name string) layer.Entry {
 func (r *reader) nameBehind(last string) string {
 	name := r.text()
 	must(texts.IsName(name) && name > last)
-	_, known := r.said[name]
+	_, known := r.known[name]
 	must(!known)
 	return name
+}
+
+func (r *reader) say(at int, name string, saying layer.Saying) {
+	r.known[name] = struct{}{}
+	r.tell(at, name, saying)
 }
 
 func (r *reader) text() string {

@@ -22,7 +22,12 @@ func IsName(s string) bool {
 
 // IsText tells whether s is a text.
 func IsText(s string) bool {
-	if len(s) < 1 || len(s) > MaxText {
+	return s != "" && IsTyped(s)
+}
+
+// IsTyped tells whether s may have been typed: a text, or nothing yet.
+func IsTyped(s string) bool {
+	if len(s) > MaxText {
 		return false
 	}
 	for i := range len(s) {
@@ -43,6 +48,11 @@ func Fold(s string) string {
 		}
 	}
 	return string(folded)
+}
+
+// WordBegins tells whether a word of a folded text begins at that byte.
+func WordBegins(folded string, at int) bool {
+	return isWordByte(folded[at]) && (at == 0 || !isWordByte(folded[at-1]))
 }
 
 func isWordByte(b byte) bool {

@@ -35,6 +35,42 @@ func TestIsText(t *testing.T) {
 	}
 }
 
+func TestIsTyped(t *testing.T) {
+	for _, good := range []string{"", " ", "~", "New Y", strings.Repeat("x", MaxText)} {
+		if !IsTyped(good) {
+			t.Errorf("%q may be typed", good)
+		}
+	}
+	for _, bad := range []string{strings.Repeat("x", MaxText+1), "\x1f", "\x7f", "a\x00", "\ta", "a\x80b", "\u00e9", strings.Repeat("x", 1<<20)} {
+		if IsTyped(bad) {
+			t.Errorf("%.40q may not be typed", bad)
+		}
+	}
+}
+
+func TestWordBegins(t *testing.T) {
+	for text, want := range map[string]string{
+		"a":          "^",
+		"-":          ".",
+		"new york":   "^...^...",
+		" x1-y  z-":  ".^..^..^.",
+		"a9 9a/0:z{": "^..^..^.^.",
+		"`a@b[c":     ".^.^.^",
+	} {
+		got := ""
+		for at := range len(text) {
+			if WordBegins(text, at) {
+				got += "^"
+			} else {
+				got += "."
+			}
+		}
+		if got != want {
+			t.Errorf("words of %q begin at %q, want %q", text, got, want)
+		}
+	}
+}
+
 func TestEveryByte(t *testing.T) {
 	for b := range 256 {
 		s := string([]byte{byte(b)})
@@ -43,8 +79,11 @@ func TestEveryByte(t *testing.T) {
 			t.Errorf("the byte %d in a name: want %v", b, inName)
 		}
 		inText := b >= 32 && b <= 126
-		if IsText(s) != inText || IsText("a"+s) != inText {
+		if IsText(s) != inText || IsText("a"+s) != inText || IsTyped(s) != inText {
 			t.Errorf("the byte %d in a text: want %v", b, inText)
+		}
+		if WordBegins(s, 0) != inName {
+			t.Errorf("the byte %d in a word: want %v", b, inName)
 		}
 	}
 }
