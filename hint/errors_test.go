@@ -13,7 +13,7 @@ var wrongStrings = []string{"", " ", "A", "a b", "a\x00", "\x1f", "\x7f", "\x80"
 var wrongNumbers = []int{math.MinInt, math.MinInt + 1, -1 << 32, -256, -2, -1, 6, 7, 256, 1000001, 1 << 24, 1 << 32, math.MaxInt - 1, math.MaxInt}
 
 // full makes an engine with six segments, entries and gone names in them, and
-// both in the buffer.
+// both in the buffer, and with as many words as may be.
 func full(t *testing.T) *hint.Engine {
 	t.Helper()
 	e := hint.New()
@@ -26,6 +26,10 @@ func full(t *testing.T) *hint.Engine {
 	}
 	upsert(t, e, "a", "buffered")
 	makeGone(t, e, "b")
+	observe(t, e, "a b c", "a b")
+	for i := range 57 {
+		observe(t, e, numbered("n", i))
+	}
 	return e
 }
 
@@ -50,6 +54,7 @@ func TestP1NothingPanics(t *testing.T) {
 				e.Upsert(s, s, n, n)
 				e.Upsert("a", s, n, n)
 				e.Upsert("a", "x", n, n)
+				e.Suggest("a b", n)
 				noneBesideAnError(t, e, s, n)
 				e.Merge(n)
 			}
@@ -85,7 +90,10 @@ func TestP1ErrorsChangeNothing(t *testing.T) {
 		}
 		for _, s := range []string{"", "\x1f", "\x7f", "x\u00e9", strings.Repeat("x", 25), strings.Repeat("x", 1<<22)} {
 			want(t, "Upsert of no text", asked.Upsert("a", s, 0, 0), hint.ErrText)
+			want(t, "Observe of no text", asked.Observe(s), hint.ErrText)
 		}
+		suggestsNone(t, asked, "x\u00e9", 20, hint.ErrText)
+		suggestsNone(t, asked, "x", 21, hint.ErrArg)
 		for _, n := range []int{math.MinInt, -1, 1000001, math.MaxInt} {
 			want(t, "Upsert of a wrong weight", asked.Upsert("a", "x", n, 0), hint.ErrArg)
 			want(t, "Upsert of wrong tags", asked.Upsert("a", "x", 0, n), hint.ErrArg)

@@ -84,6 +84,10 @@ func numbered(prefix string, n int) string {
 // what is seen of its buffer once that is flushed.
 func tell(e *hint.Engine) string {
 	var out strings.Builder
+	for _, behind := range []string{"", "a", "a b", "text", "x"} {
+		list, err := e.Suggest(behind, 20)
+		out.WriteString(strings.Join(list, " ") + strconv.Itoa(int(err)))
+	}
 	for range 2 {
 		out.WriteString(strconv.Itoa(e.Segments()))
 		for i := range e.Segments() {

@@ -6,6 +6,7 @@ import (
 	"strconv"
 	"strings"
 
+	"hint/follow"
 	"hint/layer"
 	"hint/match"
 	"hint/packed"
@@ -36,10 +37,13 @@ const (
 type Engine struct {
 	buffer   layer.Layer
 	segments []string // packed ones, the oldest first; none says nothing
+	words    follow.Counts
 }
 
 // New makes an engine (P3).
-func New() *Engine { return &Engine{buffer: layer.Layer{}} }
+func New() *Engine {
+	return &Engine{buffer: layer.Layer{}, words: follow.None()}
+}
 
 // Upsert puts an entry there (P3).
 func (e *Engine) Upsert(name string, text string, weight int, tags int) Errno {
@@ -147,7 +151,7 @@ func (e *Engine) Load(packed string) Errno {
 
 // Complete tells the entries that a query fits (P6).
 func (e *Engine) Complete(mode int, query string, tags int, most int) ([]string, Errno) {
-	if !isMode(mode) || tags < 0 || tags > layer.MaxTags || most < 1 || most > maxTold {
+	if !isMode(mode) || tags < 0 || tags > layer.MaxTags || !mayBeTold(most) {
 		return nil, ErrArg
 	}
 	if !texts.IsTyped(query) {
@@ -166,10 +170,26 @@ func (e *Engine) Complete(mode int, query string, tags int, most int) ([]string,
 }
 
 // Observe counts the words of a text (P7).
-func (e *Engine) Observe(text string) Errno { return OK }
+func (e *Engine) Observe(text string) Errno {
+	if !texts.IsText(text) {
+		return ErrText
+	}
+	if !e.words.Add(wordsOf(text)) {
+		return ErrMany
+	}
+	return OK
+}
 
 // Suggest tells the words that may come next (P7).
-func (e *Engine) Suggest(text string, most int) ([]string, Errno) { return nil, OK }
+func (e *Engine) Suggest(text string, most int) ([]string, Errno) {
+	if !mayBeTold(most) {
+		return nil, ErrArg
+	}
+	if !texts.IsTyped(text) {
+		return nil, ErrText
+	}
+	return e.words.Next(wordsOf(text), most), OK
+}
 
 // there answers the entries that are there.
 func (e *Engine) there() layer.Layer {
@@ -183,6 +203,16 @@ func (e *Engine) there() layer.Layer {
 
 func isMode(mode int) bool {
 	return mode >= int(match.Whole) && mode <= int(match.TwoChanges)
+}
+
+func mayBeTold(most int) bool {
+	return most >= 1 && most <= maxTold
+}
+
+// wordsOf answers those of what was typed. They are pieces of its folded form,
+// which is new, so that they may be kept.
+func wordsOf(typed string) []string {
+	return texts.Words(texts.Fold(typed))
 }
 
 // line answers an entry as Complete tells it.

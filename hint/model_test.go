@@ -2,6 +2,7 @@ package hint_test
 
 import (
 	"fmt"
+	"math/big"
 	"math/rand"
 	"regexp"
 	"slices"
@@ -12,9 +13,10 @@ import (
 	"hint/hint"
 )
 
-// The model is a second, plainer making of P3 to P6: unpacked segments, and a
+// The model is a second, plainer making of P3 to P7: unpacked segments, and a
 // tree that grows byte by byte and is pressed together afterwards; a search
-// that tries all.
+// that tries all; words that are counted as pieces of text, and fractions that
+// are made as the document has them.
 
 type modelEntry struct {
 	name, text   string
@@ -27,6 +29,9 @@ type modelLayer map[string]modelEntry
 type model struct {
 	buffer   modelLayer
 	segments []modelLayer
+	counted  map[string]int64 // of one, two or three words, with blanks between
+	words    []string
+	all      int64
 }
 
 func (m *model) find(name string) (modelEntry, bool) {
@@ -174,6 +179,58 @@ func (m *model) complete(mode int, query string, tags, most int) []string {
 		lines = append(lines, fmt.Sprintf("%s %d %s", entry.name, entry.weight, entry.text))
 	}
 	return lines[:min(most, len(lines))]
+}
+
+func (m *model) observe(text string) hint.Errno {
+	words := modelWord.FindAllString(strings.ToLower(text), -1)
+	different := append(slices.Clone(m.words), words...)
+	slices.Sort(different)
+	different = slices.Compact(different)
+	if len(different) > 60 {
+		return hint.ErrMany
+	}
+	m.words = different
+	m.all += int64(len(words))
+	for i := range words {
+		m.counted[words[i]]++
+		if i > 0 {
+			m.counted[words[i-1]+" "+words[i]]++
+		}
+		if i > 1 {
+			m.counted[words[i-2]+" "+words[i-1]+" "+words[i]]++
+		}
+	}
+	return hint.OK
+}
+
+func (m *model) score(behind []string, word string) *big.Rat {
+	times := func(a, b, part, whole int64) *big.Rat {
+		return new(big.Rat).Mul(big.NewRat(a, b), big.NewRat(part, whole))
+	}
+	if n := len(behind); n > 1 {
+		two := behind[n-2] + " " + behind[n-1]
+		if part := m.counted[two+" "+word]; part > 0 {
+			return times(1, 1, part, m.counted[two])
+		}
+	}
+	if n := len(behind); n > 0 {
+		if part := m.counted[behind[n-1]+" "+word]; part > 0 {
+			return times(4, 10, part, m.counted[behind[n-1]])
+		}
+	}
+	return times(16, 100, m.counted[word], m.all)
+}
+
+func (m *model) suggest(text string, most int) []string {
+	behind := modelWord.FindAllString(strings.ToLower(text), -1)
+	scores := map[string]*big.Rat{}
+	for _, word := range m.words {
+		scores[word] = m.score(behind, word)
+	}
+	// The words are in their order already, and stay so among equals.
+	words := slices.Clone(m.words)
+	slices.SortStableFunc(words, func(a, b string) int { return scores[b].Cmp(scores[a]) })
+	return words[:min(most, len(words))]
 }
 
 var modelWord = regexp.MustCompile("[a-z0-9]+")
@@ -355,6 +412,38 @@ func TestP3ToP6AgainstTheModel(t *testing.T) {
 	}
 }
 
+// TestP7AgainstTheModel: many texts of few words and of more than may be, with
+// calls on entries between them.
+func TestP7AgainstTheModel(t *testing.T) {
+	told := map[string]int{}
+	for seed := range int64(40) {
+		random := rand.New(rand.NewSource(seed))
+		e, m := hint.New(), &model{counted: map[string]int64{}}
+		words := []int{3, 12, 58, 75}[seed%4]
+		for step := range 600 {
+			text, most := randomWords(random, words), 1+random.Intn(20)
+			got, wanted := e.Observe(text), m.observe(text)
+			if got != wanted {
+				t.Fatalf("seed %d, step %d: Observe(%q) = %d, want %d", seed, step, text, got, wanted)
+			}
+			told["Observe"+strconv.Itoa(int(got))]++
+			randomEntryAsk(random, 20)(e)
+			behind := randomWords(random, words)
+			behind = behind[:random.Intn(len(behind)+1)]
+			list, err := e.Suggest(behind, most)
+			if inModel := m.suggest(behind, most); !slices.Equal(list, inModel) || err != hint.OK {
+				t.Fatalf("seed %d, step %d: Suggest(%q, %d) = %q, %d, want %q", seed, step, behind, most, list, err, inModel)
+			}
+			told["Suggest behind "+strconv.Itoa(min(3, len(modelWord.FindAllString(behind, -1))))]++
+		}
+	}
+	for _, outcome := range []string{"Observe0", "Observe4", "Suggest behind 0", "Suggest behind 1", "Suggest behind 2", "Suggest behind 3"} {
+		if told[outcome] == 0 {
+			t.Errorf("%s never came about", outcome)
+		}
+	}
+}
+
 // randomCall does the same to the engine and to the model.
 func randomCall(random *rand.Rand, e *hint.Engine, m *model, names, flushes int) (call string, got, wanted hint.Errno) {
 	name := numbered("n", random.Intn(names))
@@ -405,6 +494,22 @@ func randomText(random *rand.Rand) string {
 		text[i] = alphabet[random.Intn(len(alphabet))]
 	}
 	return string(text)
+}
+
+// randomWords is a text of some of so many words, with signs between them.
+func randomWords(random *rand.Rand, words int) string {
+	text := ""
+	for range 1 + random.Intn(8) {
+		word := strconv.FormatInt(int64(10+random.Intn(1+random.Intn(words))), 36)
+		if random.Intn(4) == 0 {
+			word = strings.ToUpper(word)
+		}
+		text += word + []string{" ", " ", " ", "-", ", ", "~"}[random.Intn(6)]
+	}
+	if random.Intn(20) == 0 {
+		text = " .?"
+	}
+	return text[:min(len(text)-random.Intn(2), 24)]
 }
 
 // randomQuery is mostly some of a text that is there, with changes.

@@ -63,26 +63,75 @@ func TestP8TimingChangesNoAnswer(t *testing.T) {
 // randomAsk is a call that does the same to every engine, and tells the call
 // and its answer.
 func randomAsk(random *rand.Rand, names int) func(*hint.Engine) string {
+	if random.Intn(4) == 0 {
+		return randomWordAsk(random, 2+names)
+	}
+	return randomEntryAsk(random, names)
+}
+
+func randomEntryAsk(random *rand.Rand, names int) func(*hint.Engine) string {
 	name, text, n := numbered("n", random.Intn(names)), randomText(random), random.Intn(1000001)
 	query := text[:random.Intn(min(4, len(text)+1))]
-	switch random.Intn(8) {
+	switch random.Intn(6) {
 	case 0, 1, 2:
 		return func(e *hint.Engine) string {
 			return fmt.Sprint("Upsert ", name, e.Upsert(name, text, n%100, n%256))
 		}
 	case 3:
 		return func(e *hint.Engine) string { return fmt.Sprint("Delete ", name, e.Delete(name)) }
-	case 4:
-		return func(e *hint.Engine) string { return fmt.Sprint("Observe ", text, e.Observe(text)) }
-	case 5:
-		return func(e *hint.Engine) string {
-			list, err := e.Suggest(text, 1+n%20)
-			return fmt.Sprintf("Suggest %q %q %d", text, list, err)
-		}
 	}
 	return func(e *hint.Engine) string {
 		list, err := e.Complete(n%4, query, n%3*(n%8), 1+n%20)
 		return fmt.Sprintf("Complete %d %q %q %d", n, query, list, err)
+	}
+}
+
+func randomWordAsk(random *rand.Rand, words int) func(*hint.Engine) string {
+	text, most := randomWords(random, words), 1+random.Intn(20)
+	if random.Intn(2) == 0 {
+		return func(e *hint.Engine) string { return fmt.Sprintf("Observe %q %d", text, e.Observe(text)) }
+	}
+	return func(e *hint.Engine) string {
+		list, err := e.Suggest(text, most)
+		return fmt.Sprintf("Suggest %q %d %q %d", text, most, list, err)
+	}
+}
+
+// randomUpkeep is a call on segments.
+func randomUpkeep(random *rand.Rand) func(*hint.Engine) string {
+	n := random.Intn(6)
+	switch random.Intn(4) {
+	case 0:
+		return func(e *hint.Engine) string { return fmt.Sprint("Merge ", n, e.Merge(n)) }
+	case 1:
+		return func(e *hint.Engine) string { return fmt.Sprint("Load ", e.Load(one("l", "loaded"))) }
+	case 2:
+		return func(e *hint.Engine) string {
+			packed, err := e.Dump(n)
+			return fmt.Sprintf("Dump %d of %d %q %d", n, e.Segments(), packed, err)
+		}
+	}
+	return func(e *hint.Engine) string { return fmt.Sprint("Flush ", e.Flush()) }
+}
+
+// TestP7WordsAndEntriesAreApart: an engine that keeps both answers like one
+// that is never asked for words, and like one that never has an entry.
+func TestP7WordsAndEntriesAreApart(t *testing.T) {
+	for seed := range int64(25) {
+		random := rand.New(rand.NewSource(seed))
+		both, entries, words := hint.New(), hint.New(), hint.New()
+		for step := range 600 {
+			ask, alone := randomEntryAsk(random, 40), entries
+			switch random.Intn(4) {
+			case 0:
+				ask = randomUpkeep(random)
+			case 1, 2:
+				ask, alone = randomWordAsk(random, 70), words
+			}
+			if got, wanted := ask(both), ask(alone); got != wanted {
+				t.Fatalf("seed %d, step %d: %s, want %s", seed, step, got, wanted)
+			}
+		}
 	}
 }
 

@@ -1,5 +1,11 @@
-// Package texts tells which strings are names and texts, and folds texts.
+// Package texts tells which strings are names and texts, folds texts, and
+// finds their words.
 package texts
+
+import (
+	"strings"
+	"unicode/utf8"
+)
 
 // MaxText and MaxName are the most bytes that a text and a name may have.
 const (
@@ -48,6 +54,13 @@ func Fold(s string) string {
 		}
 	}
 	return string(folded)
+}
+
+// Words answers the words of a folded text, one behind the other.
+func Words(folded string) []string {
+	return strings.FieldsFunc(folded, func(r rune) bool {
+		return r >= utf8.RuneSelf || !isWordByte(byte(r))
+	})
 }
 
 // WordBegins tells whether a word of a folded text begins at that byte.

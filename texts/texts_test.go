@@ -1,6 +1,7 @@
 package texts
 
 import (
+	"slices"
 	"strings"
 	"testing"
 )
@@ -99,6 +100,42 @@ func TestFold(t *testing.T) {
 	} {
 		if got := Fold(s); got != want {
 			t.Errorf("Fold(%q) = %q, want %q", s, got, want)
+		}
+	}
+}
+
+func TestWords(t *testing.T) {
+	for text, want := range map[string][]string{
+		"":                         nil,
+		" ":                        nil,
+		"--~":                      nil,
+		"a":                        {"a"},
+		"the cat":                  {"the", "cat"},
+		" the  cat-sat. ":          {"the", "cat", "sat"},
+		"a a a":                    {"a", "a", "a"},
+		"4you 2":                   {"4you", "2"},
+		"it's":                     {"it", "s"},
+		"`a{z/0:9@a[z":             {"a", "z", "0", "9", "a", "z"},
+		"a\x80b\u00e9c\u0161d\x00": {"a", "b", "c", "d"},
+		strings.Repeat("x", 24):    {strings.Repeat("x", 24)},
+		strings.Repeat("x ", 12):   strings.Fields(strings.Repeat("x ", 12)),
+	} {
+		if got := Words(text); !slices.Equal(got, want) {
+			t.Errorf("words of %q: %q, want %q", text, got, want)
+		}
+	}
+}
+
+// TestWordsOfEveryByte: those that are of no word part words.
+func TestWordsOfEveryByte(t *testing.T) {
+	for b := range 256 {
+		s := string([]byte{byte(b)})
+		want := []string{"a", "z"}
+		if strings.Contains("abcdefghijklmnopqrstuvwxyz0123456789", s) {
+			want = []string{"a" + s + "z"}
+		}
+		if got := Words("a" + s + "z"); !slices.Equal(got, want) {
+			t.Errorf("words around the byte %d: %q", b, got)
 		}
 	}
 }
